@@ -1,0 +1,1 @@
+"""Fusewalks: several walks over a tree run as one."""
