@@ -39,8 +39,6 @@ class Plan:
         return Plan(names)
 
     def __mul__(self, times):
-        if not isinstance(times, int):
-            return NotImplemented
         groups = self._groups * times
         return Plan(*groups)
 
@@ -58,7 +56,7 @@ class Plan:
         """The tuple of all names of walks, in order."""
         return tuple([name for group in self._groups for name in group])
 
-    # A plain parameter stands before the star, as LANGUAGE.md asks of every method (L4).
+    # The first name is a parameter of its own, because a method has a plain parameter before a star.
     @staticmethod
     def apart(first=None, *names):
         """Return the plan in which each name is a group of its own."""

@@ -70,7 +70,8 @@ class Steps(unittest.TestCase):
         self.assertEqual(child_batches(program, "leaf", ["up"]), ())
 
     def test_order_of_a_child_batch(self):
-        walks = {"up": {"pair": [("call", 2, "down"), ("call", 1, "up"), ("call", 2, "up")]}, "down": {"pair": calls("down")}}
+        up = [("call", 2, "down"), ("call", 1, "up"), ("call", 2, "up")]
+        walks = {"up": {"pair": up}, "down": {"pair": calls("down")}}
         program = Program(Grammar([], EXPR), walks)
         self.assertEqual(child_batches(program, "pair", ["down", "up"]), (("down", "up"), ("down", "up")))
         self.assertEqual(child_batches(program, "pair", ["up", "down"]), (("up", "down"), ("down", "up")))
@@ -260,6 +261,20 @@ class Unbounded(unittest.TestCase):
         walks = {"up": {"ka": calls("up"), "kb": calls("down", "up"), "kc": calls("up")}, "down": {"kc": calls("up")}}
         loop = self.check(Program(Grammar([], kinds), walks), ["up"])[1]
         self.assertEqual(len(loop), 3)
+
+    def test_chains_that_part_early(self):
+        """After they have parted, both chains go on by the first statement of each body."""
+        walks = {
+            "p": {"link": calls("r", "s")},
+            "r": {"link": calls("p")},
+            "s": {"link": calls("q")},
+            "q": {"link": calls("t")},
+            "t": {"link": calls("q")},
+        }
+        program = line_program(walks)
+        for row in (["p"], ["r"]):
+            self.assertEqual(len(self.check(program, row)[1]) % 2, 0)
+        self.assertIsNone(unbounded(program, ["s", "q", "t"]))
 
     def test_long_loops(self):
         """A walk in a round of two and one in a round of three meet again after six moves only."""

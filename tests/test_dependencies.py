@@ -3,6 +3,7 @@ import unittest
 
 from fusewalks.dependencies import dependencies, find_cycle, items_of, least_schedule, reasons, spans
 from fusewalks.errors import DependencyCycle, LimitExceeded, UnknownName
+from fusewalks.grammar import Grammar
 from fusewalks.program import Program
 
 from tests.samples import example, expr_grammar, line_program, ring, sparse_case, to_program
@@ -189,6 +190,26 @@ class Cycles(unittest.TestCase):
                 self.assertEqual((error.kind, error.batch), ("top", batch))
                 self.assertIsInstance(error.cycle, tuple)
                 self.assertTrue(same_cycle(items[:length], list(error.cycle)))
+
+    def test_several_rings(self):
+        """One ring of items is around child 1 and another one around child 2; each may be the shorter one."""
+        for first, second in ((2, 3), (3, 2), (3, 4), (4, 3), (3, 3)):
+            body = []
+            for child, length, fields in ((1, first, "ab"), (2, second, "cd")):
+                places = [(child, "e"), (0, fields[0]), (0, fields[1])][: length - 1] + [(child, "f")]
+                body.append([("call", child, "low")])
+                body[-1] += [("set", *places[k + 1], [places[k]]) for k in range(length - 1)]
+                body[-1] += [("call", child, "read")]
+            kinds = [("top", "x", ["y", "y"]), ("dot", "y", [])]
+            walks = {
+                "one": {"top": body[0]},
+                "two": {"top": body[1]},
+                "low": {"dot": [("set", 0, "e", [])]},
+                "read": {"dot": [("set", 0, "b", [(0, "f")])]},
+            }
+            program = Program(Grammar(["a", "b", "c", "d", "e", "f"], kinds), walks)
+            for batch in (["one", "two"], ["two", "one"]):
+                self.assertEqual(self.check(program, "top", batch), min(first, second))
 
     def test_rings_among_other_items(self):
         chance = random.Random(6)

@@ -47,11 +47,13 @@ class Errors(unittest.TestCase):
         self.assertEqual(set(found), {WalkError, *MADE})
 
     def test_lists_are_copied(self):
-        batch, cycle = ["up"], list(CYCLE)
-        error = DependencyCycle("pair", batch, cycle)
-        batch.append("down")
-        cycle.clear()
-        self.assertEqual((error.batch, error.cycle), (("up",), CYCLE))
+        for made, (values, names) in MADE.items():
+            given = [list(value) if isinstance(value, tuple) else value for value in values]
+            error = made(*given)
+            for value in given:
+                if isinstance(value, list):
+                    value.clear()
+            self.assertEqual(tuple(getattr(error, name) for name in names), values)
 
     def test_messages_say_what_is_wrong(self):
         self.assertIn("fields", str(LimitExceeded("fields")))

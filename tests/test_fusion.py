@@ -333,6 +333,26 @@ class Faults(unittest.TestCase):
         self.assertEqual(program.ignored, ())
 
 
+def detour():
+    """Return a program whose walk "last" is called at once by "wide", or by a smaller tree of three kinds "one"."""
+    kinds = [
+        ("wide", "x", ["x", "y", "y"]),
+        ("one", "x", ["x"]),
+        ("end", "x", []),
+        ("dot", "y", ["z", "z", "z"]),
+        ("tip", "z", []),
+    ]
+    twice = [("set", 0, "a", []), ("set", 0, "a", [])]
+    walks = {
+        "up": {"wide": [("call", 1, "last"), *twice], "one": [("call", 1, "down")]},
+        "down": {"one": [("call", 1, "side")]},
+        "side": {"one": [("call", 1, "last")]},
+        "last": {"end": twice, "one": [("call", 1, "deep")]},
+        "deep": {"end": twice},
+    }
+    return Program(Grammar(["a"], kinds), walks)
+
+
 class SmallestTrees(unittest.TestCase):
     def test_example(self):
         program = example()
@@ -363,23 +383,21 @@ class SmallestTrees(unittest.TestCase):
         self.assertEqual((tree.size, path, tree[path].kind), (10, (1, 1), "tip"))
 
     def test_the_shortest_way_is_not_always_the_smallest(self):
-        kinds = [
-            ("wide", "x", ["x", "y", "y"]),
-            ("one", "x", ["x"]),
-            ("end", "x", []),
-            ("dot", "y", ["z", "z", "z"]),
-            ("tip", "z", []),
-        ]
-        walks = {
-            "up": {"wide": [("call", 1, "last")], "one": [("call", 1, "down")]},
-            "down": {"one": [("call", 1, "side")]},
-            "side": {"one": [("call", 1, "last")]},
-            "last": {"end": [("set", 0, "a", []), ("set", 0, "a", [])]},
-        }
-        program = Program(Grammar(["a"], kinds), walks)
-        tree, path = smallest_tree(program, ["up"], "end", ("last",), (0, "end", 0, 0), (0, "end", 0, 1))
-        # By "wide" the node is the root's child, but the root's other children have 4 nodes each.
+        program = detour()
+        events = ((0, "end", 0, 0), (0, "end", 0, 1))
+        # By "wide" the node with "last" is the root's child, but the root's other children have 4 nodes each.
+        tree, path = smallest_tree(program, ["up"], "end", ("last",), *events)
         self.assertEqual((tree.size, path), (4, (1, 1, 1)))
+        tree, path = smallest_tree(program, ["up"], "end", ("deep",), *events)
+        self.assertEqual((tree.size, path), (5, (1, 1, 1, 1)))
+
+    def test_the_smallest_fault_is_found_by_the_smallest_way(self):
+        program = detour()
+        fusion = fuse(program, ["up"])
+        for key in (("wide", ("up",)), ("end", ("deep",))):
+            fusion[key] = fusion[key][::-1]
+        fault = fusion.fault()
+        self.assertEqual((fault.tree.size, fault.path, fault.batch), (5, (1, 1, 1, 1), ("deep",)))
 
     def test_errors(self):
         program = example()
@@ -444,6 +462,11 @@ class Listings(unittest.TestCase):
         self.assertEqual(lines[0], "end [up, up]")
         self.assertEqual(lines[9], "  9 up.2           a = f()")
         self.assertEqual(lines[10], " 10 up.3           a = f()")
+
+    def test_batches_of_different_children(self):
+        walks = {"up": {"pair": [("call", 1, "up"), ("call", 2, "down"), ("call", 2, "up")]}, "down": {}}
+        lines = fuse(Program(expr_grammar(), walks), ["up"]).listing()
+        self.assertEqual(lines[1:4], ["pair [up]", "  1 call 1         up", "  2 call 2         down, up"])
 
     def test_listing_shows_the_present_schedules(self):
         fusion = Fusion(example(), ["up", "down"])

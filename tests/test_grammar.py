@@ -78,6 +78,12 @@ class Attributes(unittest.TestCase):
         self.assertEqual([grammar.kind_size(kind) for kind in grammar.kinds], [13, 4, 1, 15])
         self.assertEqual(grammar.least_size("a"), 13)
 
+    def test_a_smaller_kind_stands_later(self):
+        kinds = [("leaf", "z", []), ("wide", "y", ["z"] * 3), ("one", "x", ["y"]), ("dot", "y", [])]
+        grammar = Grammar([], kinds)
+        self.assertEqual([grammar.kind_size(kind) for kind in grammar.kinds], [1, 4, 2, 1])
+        self.assertEqual([grammar.least_size(family) for family in "xyz"], [2, 1, 1])
+
     def test_least_sizes_against_all_trees(self):
         for seed in range(150):
             case, _ = random_case(seed)

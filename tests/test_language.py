@@ -205,7 +205,9 @@ class Names(unittest.TestCase):
     def test_names_of_generators(self):
         functions = [node for _, node in nodes(ast.FunctionDef)]
         generators = [
-            node.name for node in functions if any(isinstance(part, (ast.Yield, ast.YieldFrom)) for part in ast.walk(node))
+            node.name
+            for node in functions
+            if any(isinstance(part, (ast.Yield, ast.YieldFrom)) for part in ast.walk(node))
         ]
         self.assertEqual(sorted(generators), ["paths", "reasons", "steps", "visits"])
         for word in generators:

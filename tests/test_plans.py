@@ -199,7 +199,8 @@ class Perform(unittest.TestCase):
 
     def test_no_limit_of_steps(self):
         grammar = expr_grammar()
-        body = {"pair": [("call", 1, "up"), ("call", 2, "up")] + [("set", 0, "a", [])] * 4, "leaf": [("set", 0, "a", [])] * 6}
+        sets = [("set", 0, "a", [])] * 4
+        body = {"pair": [("call", 1, "up"), ("call", 2, "up"), *sets], "leaf": sets + sets[:2]}
         program = Program(grammar, {"up": body})
         tree = Tree(grammar, "leaf")
         for _ in range(8):
@@ -224,6 +225,31 @@ class FewestGroups(unittest.TestCase):
         self.assertEqual(str(fewest_groups(program, ["up", "down", "up"])), "up|down + up")
         self.assertEqual(str(fewest_groups(program, ["down", "up", "down", "up"])), "down|up + down|up")
         self.assertEqual(str(fewest_groups(program, ["up"] * 3)), "up + up + up")
+
+    def test_a_longer_first_group_may_cost_a_group(self):
+        """The row r, s reaches 31 pairs and cannot be fused, but q, r, s can: together they call all six walks.
+
+        The walks that q, r and s call on a child of the root are p, q, r, s, t, u, cut at different places. Below,
+        each of the six goes on with the next one. With p a batch of q, r has seven walks.
+        """
+        names = ["p", "q", "r", "s", "t", "u"]
+        kinds = [("ta", "x", ["y"] * 3), ("tb", "x", ["y"] * 2), ("turn", "y", ["y"]), ("dot", "y", [])]
+        walks = {name: {"turn": [("call", 1, after)]} for name, after in zip(names, names[1:] + names[:1])}
+        walks["p"]["ta"] = [("call", 1, "p")]
+        cuts = [("ta", 1, 0, "r"), ("ta", 2, 1, "s"), ("ta", 3, 5, "s"), ("tb", 1, 2, "r"), ("tb", 2, 3, "s")]
+        for kind, child, cut, name in cuts:
+            walks["q"].setdefault(kind, []).extend(("call", child, called) for called in names[:cut])
+            walks[name].setdefault(kind, []).extend(("call", child, called) for called in names[cut:])
+        program = Program(Grammar([], kinds), walks)
+        self.assertEqual(len(fuse(program, ["p", "q"])), 2 + 24 * 2)
+        with self.assertRaises(LimitExceeded) as caught:
+            fuse(program, ["r", "s"])
+        self.assertEqual(caught.exception.limit, "pairs")
+        with self.assertRaises(LimitExceeded) as caught:
+            fuse(program, ["p", "q", "r"])
+        self.assertEqual(caught.exception.limit, "batch")
+        self.assertEqual(str(fewest_groups(program, ["p", "q", "r", "s"])), "p + q|r|s")
+        self.assertEqual(str(fewest_groups(program, ["p", "q", "r"])), "p|q + r")
 
     def test_rows_beyond_the_limits_are_cut(self):
         program = line_program(BAD)

@@ -94,7 +94,8 @@ class Checks(unittest.TestCase):
 
     def test_order_of_the_bodies(self):
         bad = [("call", 0, "up")]
-        self.assertEqual(self.refused({"up": {"pair": bad, "leaf": [SET] * 7}, "down": {"none": []}}), ("up", "pair", 0))
+        walks = {"up": {"pair": bad, "leaf": [SET] * 7}, "down": {"none": []}}
+        self.assertEqual(self.refused(walks), ("up", "pair", 0))
         with self.assertRaises(LimitExceeded):
             Program(expr_grammar(), {"up": {"leaf": [SET] * 7, "pair": bad}})
         with self.assertRaises(UnknownName):

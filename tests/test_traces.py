@@ -56,7 +56,8 @@ class Runs(unittest.TestCase):
         program = line_program(walks)
         trace = run(program, ["down", "up"], line_tree(program.grammar, 3))
         below = (1, 1)
-        self.assertEqual(list(trace), [((), 0, 0), ((1,), 0, 0), ((), 1, 1), (below, 0, 0), (below, 0, 1), ((1,), 1, 1)])
+        events = [((), 0, 0), ((1,), 0, 0), ((), 1, 1), (below, 0, 0), (below, 0, 1), ((1,), 1, 1)]
+        self.assertEqual(list(trace), events)
 
     def test_a_visit_without_events_counts_as_a_turn(self):
         program = line_program({"up": {}, "down": {"end": [("set", 0, "a", [])]}})
