@@ -110,9 +110,9 @@ def _step_events(program, kind, batch):
             events = [((0, kind, turn, index), _touched(statement))]
         else:
             _, child, walk = statement
-            turn = calls.get(child, 0)
-            calls[child] = turn + 1
-            events = _child_events(program, kind, child, walk, turn)
+            earlier = calls.get(child, 0)
+            calls[child] = earlier + 1
+            events = _child_events(program, kind, child, walk, earlier)
         found.append((_item_of(step), events))
     return found
 
@@ -199,9 +199,10 @@ def _cycle_through(start, following):
     queue = [start]
     at = 0
     while at < len(queue) and start not in came:
-        for later in following[queue[at]]:
+        item = queue[at]
+        for later in following[item]:
             if later not in came:
-                came[later] = queue[at]
+                came[later] = item
                 queue.append(later)
         at += 1
     if start not in came:
